@@ -1,0 +1,148 @@
+"""The rules of the language that can be seen by looking at the files."""
+
+import ast
+import builtins
+import pathlib
+import re
+import unittest
+
+PACKAGE = pathlib.Path(__file__).resolve().parent.parent / "wordbench"
+BUILTINS = set(
+    "len range enumerate zip min max sum abs sorted reversed int str bool bytes list tuple dict set isinstance ord repr"
+    " any all divmod iter next Exception ValueError TypeError KeyError IndexError LookupError ZeroDivisionError"
+    " ArithmeticError OverflowError RuntimeError NotImplementedError AttributeError StopIteration NotImplemented"
+    " super property staticmethod classmethod".split()
+)
+DOUBLE = set("__init__ __eq__ __repr__ __str__ __len__ __enter__ __exit__ __call__ __iter__".split())
+BARRED_WORDS = set(
+    "type typing typing_extensions enum Enum IntEnum StrEnum Flag IntFlag Generic Protocol ABC ABCMeta namedtuple"
+    " NamedTuple TypedDict TYPE_CHECKING abstractmethod".split()
+)
+BARRED_NAMES = set(
+    "register mro elements open input version_info with_traceback add_note attrgetter breakpoint builtins compile"
+    " copyright credits delattr dir eval exec exit gc getattr globals hasattr help id importlib license locals"
+    " methodcaller os quit setattr type vars sys chr".split()
+)
+BARRED_NODES = (
+    ast.Global, ast.AsyncFunctionDef, ast.AsyncFor, ast.AsyncWith, ast.Await, ast.Import, ast.Div, ast.MatMult,
+    ast.MatchClass, ast.MatchMapping,
+)
+
+
+def sources():
+    return sorted(PACKAGE.glob("*.py"))
+
+
+def nodes_of(kinds):
+    for path in sources():
+        for node in ast.walk(ast.parse(path.read_text())):
+            if isinstance(node, kinds):
+                yield path.name, node
+
+
+def functions_of(tree):
+    return [node for node in ast.walk(tree) if isinstance(node, ast.FunctionDef)]
+
+
+def bound_names():
+    """Each name that a file binds, but methods and attributes."""
+    for path in sources():
+        tree = ast.parse(path.read_text())
+        methods = {id(each) for node in ast.walk(tree) if isinstance(node, ast.ClassDef) for each in node.body}
+        for node in ast.walk(tree):
+            if isinstance(node, ast.arg):
+                yield path.name, node.arg
+            if isinstance(node, ast.Name) and isinstance(node.ctx, ast.Store):
+                yield path.name, node.id
+            if isinstance(node, (ast.FunctionDef, ast.ClassDef)) and id(node) not in methods:
+                yield path.name, node.name
+            if isinstance(node, ast.ExceptHandler) and node.name:
+                yield path.name, node.name
+
+
+class Files(unittest.TestCase):
+    def test_there_are_only_plain_files(self):
+        self.assertIn("__init__.py", [path.name for path in sources()])
+        for path in PACKAGE.iterdir():
+            if path.name != "__pycache__":
+                self.assertRegex(path.name, r"\A(__init__|__main__|[a-z][a-z0-9_]*)\.py\Z")
+
+    def test_sizes_and_signs(self):
+        for path in sources():
+            text = path.read_text()
+            with self.subTest(path.name):
+                self.assertLessEqual(len(text.splitlines()), 400)
+                self.assertLessEqual(max(len(line) for line in text.splitlines()), 120)
+                self.assertRegex(text, r"\A[ -~\n]*\Z")
+                for node in functions_of(ast.parse(text)):
+                    self.assertLessEqual(node.end_lineno - node.lineno + 1, 40, node.name)
+
+    def test_barred_words(self):
+        for path in sources():
+            words = re.findall(r"\w+", path.read_text())
+            with self.subTest(path.name):
+                self.assertEqual(BARRED_WORDS & set(words), set())
+                self.assertFalse([word for word in words if re.search("dataclass|overload|contextmanager", word)])
+
+
+class Code(unittest.TestCase):
+    def test_imports(self):
+        modules = {f"wordbench.{path.stem}" for path in sources()}
+        for name, node in nodes_of(ast.ImportFrom):
+            with self.subTest(f"{name}:{node.lineno}"):
+                self.assertEqual(node.level, 0)
+                self.assertIn(node.module, modules)
+                self.assertNotIn("*", [alias.name for alias in node.names])
+                self.assertEqual(node.col_offset, 0)
+
+    def test_barred_statements_and_signs(self):
+        self.assertEqual([(name, node.__class__.__name__) for name, node in nodes_of(BARRED_NODES)], [])
+
+    def test_plain_values(self):
+        for name, node in nodes_of(ast.Constant):
+            with self.subTest(f"{name}:{node.lineno}"):
+                self.assertNotIsInstance(node.value, (float, complex))
+                if isinstance(node.value, str):
+                    self.assertNotIn("%", node.value)
+
+    def test_builtins(self):
+        for name, node in nodes_of(ast.Name):
+            if node.id in vars(builtins):
+                self.assertIn(node.id, BUILTINS, f"{name}:{node.lineno}")
+
+    def test_names_that_are_bound(self):
+        for file, name in bound_names():
+            with self.subTest(f"{file}: {name}"):
+                self.assertRegex(name, r"\A[A-Za-z][A-Za-z0-9_]*\Z")
+                self.assertNotIn(name, vars(builtins))
+                self.assertNotIn(name, BARRED_NAMES)
+
+    def test_attributes_and_methods_have_plain_names(self):
+        for name, node in nodes_of(ast.Attribute):
+            with self.subTest(f"{name}:{node.lineno}"):
+                self.assertTrue(node.attr == "__init__" or not node.attr.startswith("_"), node.attr)
+
+    def test_double_underscore_methods(self):
+        for name, node in nodes_of(ast.FunctionDef):
+            if node.name.startswith("_"):
+                self.assertIn(node.name, DOUBLE, f"{name}:{node.lineno}")
+
+    def test_no_name_is_a_method_here_and_an_attribute_there(self):
+        methods = {each.name for _, node in nodes_of(ast.ClassDef) for each in functions_of(node)}
+        stored = {node.attr for _, node in nodes_of(ast.Attribute) if isinstance(node.ctx, ast.Store)}
+        self.assertEqual(methods & stored, set())
+
+    def test_is_stands_beside_none_true_and_false_alone(self):
+        for name, node in nodes_of(ast.Compare):
+            for sign, right in zip(node.ops, node.comparators):
+                if isinstance(sign, (ast.Is, ast.IsNot)):
+                    self.assertIn(ast.unparse(right), ("None", "True", "False"), f"{name}:{node.lineno}")
+
+    def test_any_and_all_take_lists(self):
+        for name, node in nodes_of(ast.Call):
+            if isinstance(node.func, ast.Name) and node.func.id in ("any", "all", "min", "max", "sum", "sorted"):
+                self.assertFalse([each for each in node.args if isinstance(each, ast.GeneratorExp)], name)
+
+
+if __name__ == "__main__":
+    unittest.main()

@@ -1,0 +1,1 @@
+"""Wordbench: rows of words read as commands, one way or none."""
