@@ -14,6 +14,13 @@ BUILTINS = set(
     " super property staticmethod classmethod".split()
 )
 DOUBLE = set("__init__ __eq__ __repr__ __str__ __len__ __enter__ __exit__ __call__ __iter__".split())
+BUILTIN_METHODS = set(
+    "append clear copy count endswith extend find get index insert isalnum isalpha isdigit islower isspace isupper items"
+    " join keys ljust lower lstrip partition pop remove replace reverse rfind rjust rpartition rsplit rstrip setdefault"
+    " split splitlines startswith strip update upper values zfill bit_length title capitalize swapcase casefold center"
+    " expandtabs removeprefix removesuffix rindex isascii isdecimal isnumeric istitle isidentifier isprintable translate"
+    " encode decode hex add discard __init__".split()
+)
 BARRED_WORDS = set(
     "type typing typing_extensions enum Enum IntEnum StrEnum Flag IntFlag Generic Protocol ABC ABCMeta namedtuple"
     " NamedTuple TypedDict TYPE_CHECKING abstractmethod".split()
@@ -131,6 +138,19 @@ class Code(unittest.TestCase):
         methods = {each.name for _, node in nodes_of(ast.ClassDef) for each in functions_of(node)}
         stored = {node.attr for _, node in nodes_of(ast.Attribute) if isinstance(node.ctx, ast.Store)}
         self.assertEqual(methods & stored, set())
+
+    def test_methods_that_are_called(self):
+        own = {each.name for _, node in nodes_of(ast.ClassDef) for each in functions_of(node)}
+        for name, node in nodes_of(ast.Call):
+            if isinstance(node.func, ast.Attribute):
+                self.assertIn(node.func.attr, own | BUILTIN_METHODS, f"{name}:{node.lineno}")
+
+    def test_errors_that_are_caught(self):
+        own = {node.name for name, node in nodes_of(ast.ClassDef) if name == "errors.py"}
+        for name, node in nodes_of(ast.ExceptHandler):
+            kinds = node.type.elts if isinstance(node.type, ast.Tuple) else [node.type]
+            for kind in kinds:
+                self.assertIn(kind.id, own | {"KeyError", "ZeroDivisionError"}, f"{name}:{node.lineno}")
 
     def test_is_stands_beside_none_true_and_false_alone(self):
         for name, node in nodes_of(ast.Compare):
