@@ -51,6 +51,12 @@ def functions_of(tree):
     return [node for node in ast.walk(tree) if isinstance(node, ast.FunctionDef)]
 
 
+def module_names(tree):
+    """Each name that a file binds at module level, but those that it imports."""
+    found = {node.name for node in tree.body if isinstance(node, (ast.FunctionDef, ast.ClassDef))}
+    return found | {each.id for node in tree.body if isinstance(node, ast.Assign) for each in node.targets}
+
+
 def bound_names():
     """Each name that a file binds, but methods and attributes."""
     for path in sources():
@@ -102,6 +108,38 @@ class Code(unittest.TestCase):
                 self.assertNotIn("*", [alias.name for alias in node.names])
                 self.assertEqual(node.col_offset, 0)
 
+    def test_each_name_is_imported_from_the_file_that_defines_it(self):
+        defined = {f"wordbench.{path.stem}": module_names(ast.parse(path.read_text())) for path in sources()}
+        for name, node in nodes_of(ast.ImportFrom):
+            for alias in node.names:
+                self.assertIn(alias.name, defined[node.module], f"{name}:{node.lineno}")
+
+    def test_no_two_files_import_from_each_other(self):
+        wanted = {f"wordbench.{path.stem}": set() for path in sources()}
+        for name, node in nodes_of(ast.ImportFrom):
+            wanted[f"wordbench.{name[:-3]}"].add(node.module)
+        while wanted:
+            free = [name for name, others in wanted.items() if not others & set(wanted)]
+            self.assertTrue(free, wanted)
+            for name in free:
+                del wanted[name]
+
+    def test_no_local_name_is_that_of_an_import_or_a_class(self):
+        for path in sources():
+            tree = ast.parse(path.read_text())
+            taken = {alias.name for node in tree.body if isinstance(node, ast.ImportFrom) for alias in node.names}
+            taken |= {node.name for node in tree.body if isinstance(node, ast.ClassDef)}
+            for function in functions_of(tree):
+                stored = {node.id for node in ast.walk(function) if isinstance(node, ast.Name) and isinstance(node.ctx, ast.Store)}
+                stored |= {node.arg for node in ast.walk(function) if isinstance(node, ast.arg)}
+                self.assertEqual(stored & taken, set(), f"{path.name}: {function.name}")
+
+    def test_each_attribute_that_is_read_is_set_or_is_a_method(self):
+        methods = {each.name for _, node in nodes_of(ast.ClassDef) for each in functions_of(node)}
+        stored = {node.attr for _, node in nodes_of(ast.Attribute) if isinstance(node.ctx, ast.Store)}
+        for name, node in nodes_of(ast.Attribute):
+            self.assertIn(node.attr, methods | stored | BUILTIN_METHODS, f"{name}:{node.lineno}")
+
     def test_barred_statements_and_signs(self):
         self.assertEqual([(name, node.__class__.__name__) for name, node in nodes_of(BARRED_NODES)], [])
 
@@ -151,6 +189,27 @@ class Code(unittest.TestCase):
             kinds = node.type.elts if isinstance(node.type, ast.Tuple) else [node.type]
             for kind in kinds:
                 self.assertIn(kind.id, own | {"KeyError", "ZeroDivisionError"}, f"{name}:{node.lineno}")
+
+    def test_errors_are_made_where_they_are_raised(self):
+        own = {node.name for name, node in nodes_of(ast.ClassDef) if name == "errors.py"}
+        for name, node in nodes_of(ast.Raise):
+            if node.exc is not None:
+                self.assertIn(ast.unparse(node.exc).partition("(")[0], own, f"{name}:{node.lineno}")
+                self.assertIsInstance(node.exc, ast.Call, f"{name}:{node.lineno}")
+
+    def test_a_caught_error_is_asked_for_its_fields_alone(self):
+        for name, node in nodes_of(ast.ExceptHandler):
+            reads = [each for each in ast.walk(node) if isinstance(each, ast.Name) and each.id == node.name]
+            fields = [each for each in ast.walk(node) if isinstance(each, ast.Attribute) and ast.unparse(each.value) == node.name]
+            self.assertEqual(len(reads), len(fields), f"{name}:{node.lineno}")
+
+    def test_what_is_iterated_at_once_is_not_kept(self):
+        for name, node in nodes_of((ast.Assign, ast.Return)):
+            kept = [node.value.body, node.value.orelse] if isinstance(node.value, ast.IfExp) else [node.value]
+            for call in kept:
+                if isinstance(call, ast.Call):
+                    made = call.func.attr if isinstance(call.func, ast.Attribute) else call.func.id
+                    self.assertNotIn(made, ("range", "zip", "enumerate", "reversed", "items", "keys", "values", "set"), f"{name}:{node.lineno}")
 
     def test_is_stands_beside_none_true_and_false_alone(self):
         for name, node in nodes_of(ast.Compare):

@@ -9,6 +9,10 @@ WITH_DEFAULT = ("one", "last")
 MANIES = ("one", "maybe", "some", "any")
 
 
+def is_valued(option):
+    return option.takes() not in UNVALUED
+
+
 class Option:
     """An option, made of its eight arguments; it does not change."""
 
