@@ -3,7 +3,6 @@
 import unittest
 
 from handed import refusal
-from wordbench.answers import read
 from wordbench.bench import Bench
 from wordbench.commands import Command
 from wordbench.errors import Fault, Unmade
@@ -47,6 +46,20 @@ def state(reading):
         list(reading.words()), list(reading.path()), reading.awaited(), list(reading.parts()),
         [reading.said(name) for name in names], ending(reading),
     ]
+
+
+def covers(reading):
+    """Whether the parts of each word lie one behind the other from 0 to its length."""
+    words = reading.words()
+    for number, word in enumerate(words):
+        mine = [part for part in reading.parts() if part[0] == number]
+        if not mine or mine[0][1] != 0 or mine[-1][2] != len(word):
+            return False
+        if any(ahead[2] != behind[1] for ahead, behind in zip(mine, mine[1:])):
+            return False
+        if any(begin > end for _, begin, end, _, _, _ in mine):
+            return False
+    return [part[0] for part in reading.parts()] == sorted(part[0] for part in reading.parts())
 
 
 class BenchCase(unittest.TestCase):
@@ -125,9 +138,25 @@ LET_BY = [
 ]
 
 
+# Rows of the sample bench of which a word is refused, each with its fault.
+REFUSED_WORDS = [
+    (["zz"], (0, "unknown", "zz")), (["-v", "--zz=5"], (1, "unknown", "zz")), (["-vz"], (0, "unknown", "z")), (["--"], (0, "unknown", "--")),
+    ([""], (0, "unknown", "")), (["mo"], (0, "unclear", "mo")), (["copy", "--f"], (1, "unclear", "f")),
+    (["copy", "--force=1"], (1, "unwanted", "force")), (["copy", "--no-quiet="], (1, "unwanted", "quiet")),
+    (["-a1", "-v", "--at=2"], (2, "again", "at")), (["copy", "-f", "--no-force"], (2, "again", "force")),
+    (["copy", "-Fs"], (1, "together", "slow")), (["copy", "-s", "-f", "--fast"], (3, "together", "fast")),
+    (["--at", "--at"], (1, "novalue", "at")), (["copy", "-t", "--"], (2, "novalue", "tag")),
+    (["move", "a", "b"], (2, "badvalue", "to")), (["copy", "-l", "x"], (2, "badvalue", "level")), (["copy", "--as=x"], (1, "badvalue", "as")),
+    (["copy", "--"], (1, "lacks", "as")), (["move", "a", "5", "it's"], (3, "spare", "it's")), (["more", "down", ""], (2, "spare", "")),
+]
+# Rows that only their end refuses.
+REFUSED_ENDS = [
+    ([], (0, "unnamed", "root")), (["-vv"], (1, "unnamed", "root")), (["more", "--all"], (2, "unnamed", "more")),
+    (["--at"], (1, "novalue", "at")), (["copy", "--as=:", "-ql"], (3, "novalue", "level")),
+    (["copy"], (1, "lacks", "as")), (["copy", "x", "y"], (3, "lacks", "as")), (["copy", "--as=:"], (2, "lacks", "from")),
+    (["move", "-d"], (2, "lacks", "what")), (["move", "--"], (2, "lacks", "what")), (["more", "up"], (2, "lacks", "far")),
+]
+
+
 def rows_let_by():
     return [row.split() for row in LET_BY]
-
-
-def written(bench, row):
-    return read(bench, row).written()

@@ -1,25 +1,11 @@
 import itertools
 import unittest
 
-from benches import BenchCase, a_bench, begun, rows_let_by, sample_bench
+from benches import BenchCase, a_bench, begun, covers, rows_let_by, sample_bench
 from wordbench.commands import Command
 from wordbench.errors import Fault
 from wordbench.options import Option, Place
 from wordbench.readings import Reading
-
-
-def covers(reading):
-    """Whether the parts of each word lie one behind the other from 0 to its length."""
-    words = reading.words()
-    for number, word in enumerate(words):
-        mine = [part for part in reading.parts() if part[0] == number]
-        if not mine or mine[0][1] != 0 or mine[-1][2] != len(word):
-            return False
-        if any(ahead[2] != behind[1] for ahead, behind in zip(mine, mine[1:])):
-            return False
-        if any(begin > end for _, begin, end, _, _, _ in mine):
-            return False
-    return [part[0] for part in reading.parts()] == sorted(part[0] for part in reading.parts())
 
 
 class Parts(BenchCase):

@@ -43,6 +43,15 @@ def names_beneath(command):
     return [beneath.name() for beneath in command.commands()]
 
 
+def needed_options(command):
+    return [option for option in command.options() if option.needed()]
+
+
+def needy_places(command):
+    """The places that a row can't end without a word of."""
+    return [place for place in command.places() if place.many() in NEEDS_WORD]
+
+
 class Saying:
     """One saying of an option, a command, a place or the divider; it does not change.
 
@@ -116,12 +125,11 @@ class Reading:
 
     def unsaid_options(self):
         """The needed options that aren't said."""
-        return [option for option in self.here().options() if option.needed() and option.long() not in self.counts]
+        return [option for option in needed_options(self.here()) if option.long() not in self.counts]
 
     def wordless_places(self):
         """The places that need a word and have none."""
-        needing = [place for place in self.here().places() if place.many() in NEEDS_WORD]
-        return [place for place in needing if place.name() not in self.counts]
+        return [place for place in needy_places(self.here()) if place.name() not in self.counts]
 
     def free_place(self):
         """The first place that isn't full, or None."""
